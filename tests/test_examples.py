@@ -1,0 +1,54 @@
+"""The examples of the document, as they stand there."""
+
+import unittest
+
+EXAMPLES = """
+>>> from oncecrossed.webs import cut_of, is_web, plain_web, rest_of, within, without
+>>> FULL = (4, ((0, 1), (0, 2), (0, 3), (1, 2), (1, 3), (2, 3)))
+>>> [is_web(FULL), is_web((2, ((1, 0),))), plain_web((2, ((0, 1), (0, 1)))), rest_of(FULL, (1, 3)), cut_of(FULL, (0, 1)), within(FULL, (0, 2, 3)), without(FULL, (1, 2))]
+[True, False, (2, ((0, 1),)), (0, 2), (1, 2, 3, 4), (3, ((0, 1), (0, 2), (1, 2))), (2, ((0, 1),))]
+>>> from oncecrossed.webs import is_ring, judge_sides, parts_of, sides_hold
+>>> SQUARE = (4, ((0, 1), (0, 3), (1, 2), (2, 3)))
+>>> TRIANGLE = (3, ((0, 1), (0, 2), (1, 2)))
+>>> [judge_sides(SQUARE)[0], sides_hold(SQUARE, ('sides', (0, 2))), sides_hold(TRIANGLE, ('ring', (0, 2, 1))), judge_sides(TRIANGLE)[0], is_ring(SQUARE, (0, 2, 3, 1)), is_ring(SQUARE, (0, 1, 2, 3)), is_ring((2, ((0, 1), (0, 1))), (0, 1)), parts_of((3, ((0, 2),)))]
+['sides', True, True, 'ring', True, False, True, ((0, 2), (1,))]
+>>> from oncecrossed.renamings import led, plain_renaming, renaming_between
+>>> SQUARE = (4, ((0, 1), (0, 3), (1, 2), (2, 3)))
+>>> FULL = (4, ((0, 1), (0, 2), (0, 3), (1, 2), (1, 3), (2, 3)))
+>>> [led(SQUARE, (1, 0, 2, 3)), led(SQUARE, renaming_between(SQUARE, led(SQUARE, (1, 0, 2, 3)))) == led(SQUARE, (1, 0, 2, 3)), renaming_between(SQUARE, FULL), renaming_between((2, ((0, 1),)), (2, ((0, 1), (0, 1)))), plain_renaming((2, ((0, 1),)), (2, ((0, 1), (0, 1)))) in ((0, 1), (1, 0))]
+[(4, ((0, 1), (0, 2), (1, 3), (2, 3))), True, None, None, True]
+"""
+
+
+def told_by(error):
+    """An error as the document writes it."""
+    told = ", ".join([f"{name}={value!r}" for name, value in vars(error).items()])
+    return f"raises {error.__class__.__name__}({told})"
+
+
+def outcome(line, names):
+    """What a line of an example returns or raises, as the document writes it."""
+    try:
+        return repr(eval(line, names))
+    except Exception as error:
+        return told_by(error)
+
+
+class TestExamples(unittest.TestCase):
+    def test_examples(self):
+        names = {}
+        asked = ""
+        told = 0
+        for line in EXAMPLES.strip().split("\n"):
+            if line.startswith(">>> ") and (" import " in line or line.split()[2] == "="):
+                exec(line[4:], names)
+            elif line.startswith(">>> "):
+                asked = line[4:]
+            else:
+                self.assertEqual(outcome(asked, names), line, asked)
+                told += 1
+        self.assertEqual(told, EXAMPLES.count("\n") - EXAMPLES.count("\n>>> ") - 1)
+
+
+if __name__ == "__main__":
+    unittest.main()

@@ -1,0 +1,27 @@
+"""Names, parameters and places of all that the interface lists, for what is built so far."""
+
+import importlib
+import inspect
+import unittest
+
+INTERFACE = {
+    "webs": ("is_web(thing)", "is_lot(web, thing)", "plain_web(web)", "rest_of(web, lot)", "cut_of(web, lot)",
+             "within(web, lot)", "without(web, lot)", "ends_of(web, number)", "parts_of(web)", "is_joined(web)",
+             "judge_sides(web)", "sides_hold(web, thing)", "is_ring(web, thing)"),
+    "renamings": ("led(web, renaming)", "renaming_between(one, other)", "plain_renaming(one, other)"),
+}
+
+
+class TestInterface(unittest.TestCase):
+    def test_signatures(self):
+        for file, calls in INTERFACE.items():
+            module = importlib.import_module("oncecrossed." + file)
+            for call in calls:
+                name = call.split("(")[0]
+                found = vars(module)[name]
+                self.assertEqual(name + str(inspect.signature(found)), call)
+                self.assertEqual(found.__module__, "oncecrossed." + file, call)
+
+
+if __name__ == "__main__":
+    unittest.main()
