@@ -2,7 +2,7 @@
 
 import unittest
 
-EXAMPLES = """
+EXAMPLES = r"""
 >>> from oncecrossed.webs import cut_of, is_web, plain_web, rest_of, within, without
 >>> FULL = (4, ((0, 1), (0, 2), (0, 3), (1, 2), (1, 3), (2, 3)))
 >>> [is_web(FULL), is_web((2, ((1, 0),))), plain_web((2, ((0, 1), (0, 1)))), rest_of(FULL, (1, 3)), cut_of(FULL, (0, 1)), within(FULL, (0, 2, 3)), without(FULL, (1, 2))]
@@ -17,6 +17,32 @@ EXAMPLES = """
 >>> FULL = (4, ((0, 1), (0, 2), (0, 3), (1, 2), (1, 3), (2, 3)))
 >>> [led(SQUARE, (1, 0, 2, 3)), led(SQUARE, renaming_between(SQUARE, led(SQUARE, (1, 0, 2, 3)))) == led(SQUARE, (1, 0, 2, 3)), renaming_between(SQUARE, FULL), renaming_between((2, ((0, 1),)), (2, ((0, 1), (0, 1)))), plain_renaming((2, ((0, 1),)), (2, ((0, 1), (0, 1)))) in ((0, 1), (1, 0))]
 [(4, ((0, 1), (0, 2), (1, 3), (2, 3))), True, None, None, True]
+>>> from oncecrossed.texts import read_web, text_of
+>>> [text_of((3, ((0, 2), (1, 2)))), read_web('places 2\n0 1\n0 1'), read_web('places 1')]
+['places 3\n0 2\n1 2', (2, ((0, 1), (0, 1))), (1, ())]
+>>> from oncecrossed.texts import read_web
+>>> read_web('places 4\n0 2\n0 1')
+raises BadText(at=3)
+>>> from oncecrossed.texts import read_web
+>>> read_web('places 4\n0 4')
+raises BadText(at=2)
+>>> from oncecrossed.pairings import how_many, is_pairing, odd_rests, pairing_holds, pairings
+>>> FULL = (4, ((0, 1), (0, 2), (0, 3), (1, 2), (1, 3), (2, 3)))
+>>> STAR = (4, ((0, 1), (0, 2), (0, 3)))
+>>> [pairings(FULL), how_many((2, ((0, 1), (0, 1)))), is_pairing(FULL, (0, 1)), is_pairing(FULL, (5, 0)), odd_rests(STAR, (0,)), odd_rests(STAR, ()), pairing_holds(STAR, ('lot', (0,))), pairing_holds(FULL, ('pairing', (1, 4)))]
+[((0, 5), (1, 4), (2, 3)), 2, False, False, 3, 0, True, True]
+>>> from oncecrossed.pairings import judge_pairing
+>>> [judge_pairing((4, ((0, 1), (0, 2), (0, 3)))), judge_pairing((2, ((0, 1),)))]
+[('lot', (0,)), ('pairing', (0,))]
+>>> from oncecrossed.tiesin import judge_tie, let_ties, needed_ties, tie_holds
+>>> LINE = (4, ((0, 1), (1, 2), (2, 3)))
+>>> [let_ties(LINE), needed_ties(LINE), judge_tie(LINE, 0), judge_tie(LINE, 1)[0], tie_holds(LINE, 1, ('lot', (1, 2))), tie_holds(LINE, 1, ('lot', (0, 2))), let_ties((3, ((0, 1), (1, 2))))]
+[(0, 2), (0, 2), ('pairing', (0, 2)), 'lot', True, False, ()]
+>>> from oncecrossed.covered import covered_holds, covered_parts, is_covered, judge_covered
+>>> LINE = (4, ((0, 1), (1, 2), (2, 3)))
+>>> SQUARE = (4, ((0, 1), (0, 3), (1, 2), (2, 3)))
+>>> [is_covered(SQUARE), is_covered(LINE), is_covered((1, ())), judge_covered(SQUARE), covered_holds(LINE, ('tie', 1, (1, 2))), covered_holds(SQUARE, ('covered', ((0, 3), (1, 2), (0, 3), (0, 3)))), covered_parts(LINE)]
+[True, False, False, ('covered', ((0, 3), (1, 2), (1, 2), (0, 3))), True, False, (((0, 1), (2, ((0, 1),))), ((2, 3), (2, ((0, 1),))))]
 """
 
 

@@ -9,6 +9,11 @@ INTERFACE = {
              "within(web, lot)", "without(web, lot)", "ends_of(web, number)", "parts_of(web)", "is_joined(web)",
              "judge_sides(web)", "sides_hold(web, thing)", "is_ring(web, thing)"),
     "renamings": ("led(web, renaming)", "renaming_between(one, other)", "plain_renaming(one, other)"),
+    "texts": ("text_of(web)", "read_web(text)"),
+    "pairings": ("is_pairing(web, thing)", "pairings(web)", "how_many(web)", "odd_rests(web, lot)",
+                 "judge_pairing(web)", "pairing_holds(web, thing)"),
+    "tiesin": ("judge_tie(web, number)", "tie_holds(web, number, thing)", "let_ties(web)", "needed_ties(web)"),
+    "covered": ("is_covered(thing)", "judge_covered(web)", "covered_holds(web, thing)", "covered_parts(web)"),
 }
 
 

@@ -25,9 +25,7 @@ WORDS = set("""typing typing_extensions enum Enum IntEnum StrEnum Flag IntFlag G
 STATEMENTS = (ast.Assign, ast.AugAssign, ast.If, ast.While, ast.For, ast.Return, ast.Break, ast.Continue, ast.Pass,
               ast.Raise, ast.Assert, ast.Delete, ast.Expr, ast.Try, ast.FunctionDef, ast.ClassDef, ast.ImportFrom)
 BARRED_NODES = (ast.GeneratorExp, ast.Div, ast.Yield, ast.YieldFrom, ast.Await, ast.Lambda, ast.NamedExpr, ast.Set,
-                ast.SetComp, ast.Starred, ast.JoinedStr, ast.Global, ast.Nonlocal, ast.MatMult)
-# What the package uses of these so far was read by hand: f-strings without formats.
-USED_NODES = (ast.JoinedStr,)
+                ast.SetComp, ast.Starred, ast.Global, ast.Nonlocal, ast.MatMult)
 
 
 def module_of(path):
@@ -120,8 +118,10 @@ class TestTrees(unittest.TestCase):
     def test_statements(self):
         for place, node in self.nodes(ast.stmt):
             self.assertIsInstance(node, STATEMENTS, place)
-        for place, node in self.nodes(*BARRED_NODES):
-            self.assertIsInstance(node, USED_NODES, place)
+        for place, node in self.nodes(ast.AST):
+            self.assertNotIsInstance(node, BARRED_NODES, place)
+        for place, node in self.nodes(ast.FormattedValue):
+            self.assertEqual((node.format_spec, node.conversion), (None, -1), place)
         for place, node in self.nodes(ast.Constant):
             self.assertIsInstance(node.value, (int, str, bool, type(None)), place)
             self.assertFalse(isinstance(node.value, str) and "%" in node.value, place)
