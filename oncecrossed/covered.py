@@ -1,6 +1,6 @@
 """Covered webs, and the covered parts of others."""
 
-from oncecrossed.errors import NoPairing
+from oncecrossed.errors import BadWeb, NoPairing
 from oncecrossed.masks import Matcher
 from oncecrossed.pairings import bars_pairings, is_pairing_of, judged_pairing
 from oncecrossed.tiesin import bars_tie, judged_tie, let_ties
@@ -15,6 +15,12 @@ def is_one_part(web):
 def is_covered(thing):
     """Whether any value is a covered web."""
     return is_web(thing) and is_one_part(thing) and len(let_ties(thing)) == len(thing[1])
+
+
+def check_covered(thing):
+    """Raises BadWeb with any value that is no covered web."""
+    if not is_covered(thing):
+        raise BadWeb(thing)
 
 
 def judge_covered(web):

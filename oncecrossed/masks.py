@@ -11,6 +11,11 @@ def lot_of(mask):
     return tuple([place for place in range(mask.bit_length()) if (mask >> place) & 1])
 
 
+def is_single(mask):
+    """Whether a mask has just one bit."""
+    return mask != 0 and mask & (mask - 1) == 0
+
+
 def full_mask(web):
     """The mask of all places of a web."""
     return (1 << web[0]) - 1

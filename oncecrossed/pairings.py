@@ -1,15 +1,20 @@
 """Pairings, and why there is none."""
 
 from oncecrossed.masks import Matcher, full_mask, mask_of, near_masks, odd_parts
-from oncecrossed.webs import check_lot, check_web, is_lot_of, is_tie_number, is_told
+from oncecrossed.webs import check_lot, check_web, is_lot_of, is_tie_number, is_told, places_but, plain_of
+
+
+def is_beside(web, lot, thing):
+    """Whether any value is an ascending tuple of ties that pair the places of the rest of a lot."""
+    if not isinstance(thing, tuple) or not all([is_tie_number(web, number) for number in thing]):
+        return False
+    met = [place for number in thing for place in web[1][number]]
+    return list(thing) == sorted(thing) and sorted(met) == list(places_but(web, lot))
 
 
 def is_pairing_of(web, thing):
     """Whether any value is a pairing of what is surely a web."""
-    if not isinstance(thing, tuple) or not all([is_tie_number(web, number) for number in thing]):
-        return False
-    met = [place for number in thing for place in web[1][number]]
-    return list(thing) == sorted(thing) and sorted(met) == list(range(web[0]))
+    return is_beside(web, (), thing)
 
 
 def is_pairing(web, thing):
@@ -23,6 +28,14 @@ def pairings(web):
     check_web(web)
     matcher = Matcher(web)
     return tuple(matcher.pairings_of(matcher.full))
+
+
+def first_pairings(web):
+    """The pairings of a web that have, of doubled ties, the first ones only, ascending."""
+    plain = plain_of(web)
+    matcher = Matcher(plain)
+    firsts = [web[1].index(ends) for ends in plain[1]]
+    return [tuple([firsts[number] for number in row]) for row in matcher.pairings_of(matcher.full)]
 
 
 def how_many(web):

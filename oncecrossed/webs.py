@@ -77,6 +77,11 @@ def is_lot(web, thing):
     return is_lot_of(web, thing)
 
 
+def is_place(web, thing):
+    """Whether any value is a place of a web."""
+    return is_below(thing, web[0])
+
+
 def plain_of(web):
     """The plain web of what is surely a web."""
     return (web[0], tuple(sorted(set(web[1]))))
@@ -100,11 +105,16 @@ def rest_of(web, lot):
     return places_but(web, lot)
 
 
+def cut_ties(web, lot):
+    """The cut of what is surely a lot of a web."""
+    return tuple([number for number, (a, b) in enumerate(web[1]) if (a in lot) != (b in lot)])
+
+
 def cut_of(web, lot):
     """The numbers of all ties with just one end in a lot."""
     check_web(web)
     check_lot(web, lot)
-    return tuple([number for number, (a, b) in enumerate(web[1]) if (a in lot) != (b in lot)])
+    return cut_ties(web, lot)
 
 
 def web_of(web, lot):

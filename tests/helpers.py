@@ -18,6 +18,23 @@ PETERSEN = (10, ((0, 1), (0, 4), (0, 5), (1, 2), (1, 6), (2, 3), (2, 7), (3, 4),
                  (6, 8), (6, 9), (7, 9)))
 TWO_SQUARES = (8, ((0, 2), (0, 6), (1, 3), (1, 7), (2, 4), (3, 5), (4, 6), (5, 7)))
 TWO_TRIANGLES = (6, ((0, 1), (0, 2), (1, 2), (3, 4), (3, 5), (4, 5)))
+LENS = (6, ((0, 1), (0, 2), (0, 3), (0, 4), (0, 5), (1, 2), (1, 3), (1, 4), (1, 5), (2, 3), (4, 5)))
+# Two sides of three places, all tied; the corners of a cube; a ring of five round a place; a prism with a third triangle.
+THREES = (6, tuple([(a, b) for a in range(3) for b in range(3, 6)]))
+CUBE = (8, ((0, 1), (0, 2), (0, 4), (1, 3), (1, 5), (2, 3), (2, 6), (3, 7), (4, 5), (4, 6), (5, 7), (6, 7)))
+WHEEL = (6, ((0, 1), (0, 2), (0, 3), (0, 4), (0, 5), (1, 2), (1, 5), (2, 3), (3, 4), (4, 5)))
+CUT_PRISM = (8, ((0, 1), (0, 2), (0, 6), (1, 2), (1, 7), (2, 5), (3, 4), (3, 5), (3, 6), (4, 5), (4, 7), (6, 7)))
+# The Petersen web with its place 9 made a triangle (a brick), made three places in a row (so 9 and 10 are a barrier),
+# and with a full web of four places laid along its tie between 0 and 1 (so these two places part it).
+CUT_PETERSEN = (12, PETERSEN[1][:13] + ((6, 10), (7, 11), (9, 10), (9, 11), (10, 11)))
+SPLIT_PETERSEN = (12, PETERSEN[1][:14] + ((7, 10), (9, 11), (10, 11)))
+TIED_PETERSEN = (12, tuple(sorted(PETERSEN[1] + ((0, 10), (0, 11), (1, 10), (1, 11), (10, 11)))))
+DOUBLE_PETERSEN = (10, tuple(sorted(PETERSEN[1] * 2)))
+# Twelve places round, with two ties to each of the next ones and one to the opposite one.
+BIG_RING = (12, tuple(sorted([(a, a + 1) for a in range(11)] * 2 + [(0, 11), (0, 11)] + [(a, a + 6) for a in range(6)])))
+LADDER = (12, tuple(sorted([(a, a + 6) for a in range(6)] + [(a, a + 1) for a in range(11) if a != 5] * 2)))
+COVERED = ((2, ((0, 1),)), TWIN, (2, ((0, 1),) * 30), SQUARE, FULL, HEXAGON, PRISM, LENS, THREES, CUBE, WHEEL, CUT_PRISM,
+           PETERSEN, CUT_PETERSEN, SPLIT_PETERSEN, TIED_PETERSEN, DOUBLE_PETERSEN, BIG_RING, LADDER, (4, ((0, 1), (0, 1), (0, 3), (0, 3), (1, 2), (2, 3), (2, 3))))
 
 
 def big_web():
@@ -29,6 +46,9 @@ def big_web():
 WEBS = (ONE, BARE, (2, ()), (2, ((0, 1),)), TWIN, TRIANGLE, LINE, STAR, SQUARE, FULL, PENTAGON, HEXAGON, PRISM,
         TWO_SQUARES, TWO_TRIANGLES, PETERSEN, big_web(), (3, ((0, 2),)), (4, ((0, 1), (0, 1), (2, 3), (2, 3), (2, 3))),
         (5, ((0, 3), (0, 3), (1, 2), (1, 4), (2, 4))))
+
+NOT_COVERED = (ONE, BARE, (2, ()), TRIANGLE, LINE, STAR, TWO_SQUARES, TWO_TRIANGLES, (4, ((0, 1), (2, 3))),
+               (4, ((0, 1), (0, 1), (2, 3), (2, 3), (2, 3))), (6, PRISM[1][:6] + PRISM[1][7:]), (10, PETERSEN[1][:9]))
 
 NOT_WEBS = (None, True, False, 0, 1, 2, -5, 10 ** 99, "", "web", "places 1", (), [], {}, (1,), [1, ()], (1, ()) * 2,
             (1, (), ()), (True, ()), (False, ()), (0, ()), (-1, ()), (13, ()), (10 ** 99, ()), ("1", ()), (None, ()),
@@ -66,6 +86,32 @@ def random_webs(seed, many, most_places, most_ties):
     """Some webs, the same ones each time."""
     chance = random.Random(seed)
     return [random_web(chance, most_places, most_ties) for _ in range(many)]
+
+
+def covered_part(web):
+    """A web of what lies in pairings, for the places that are joined with the place 0 by it; None without pairings."""
+    let = {number for row in quick_pairings(web) for number in row}
+    if not let:
+        return None
+    left = (web[0], tuple([web[1][number] for number in sorted(let)]))
+    names = {place: at for at, place in enumerate(slow_parts(left)[0])}
+    return (len(names), tuple([(names[a], names[b]) for a, b in left[1] if a in names]))
+
+
+def covered_webs(seed, many, most_places, most_ties):
+    """Some covered webs within the limits, the same ones each time."""
+    chance = random.Random(seed)
+    found = []
+    while len(found) < many:
+        places = 2 * chance.randint(1, most_places // 2)
+        pairs = list(combinations(range(places), 2))
+        if chance.random() < 0.4:
+            pairs = [(a, b) for a, b in pairs if (a + b) % 2]
+        ties = [chance.choice(pairs) for _ in range(chance.randint(places // 2, most_ties))]
+        web = covered_part((places, tuple(sorted(ties))))
+        if web and len(quick_pairings(web)) <= 2000:
+            found.append(slow_led(web, chance.sample(range(web[0]), web[0])))
+    return found
 
 
 def twisted(value):
@@ -126,7 +172,61 @@ def slow_pairings(web):
     return tuple(found)
 
 
+def quick_pairings(web):
+    """All pairings of a web, by the partners of its least places first; ascending."""
+    ties = [(number, 1 << a, 1 << b) for number, (a, b) in enumerate(web[1])]
+    rows = [(0, ())]
+    for place in range(web[0]):
+        grown = [(mask, row) for mask, row in rows if mask >> place & 1]
+        for mask, row in rows:
+            if not mask >> place & 1:
+                steps = [(number, b) for number, a, b in ties if a == 1 << place and not mask & b]
+                grown.extend([(mask | 1 << place | b, row + (number,)) for number, b in steps])
+        rows = grown
+    return tuple(sorted([row for _, row in rows]))
+
+
+def slow_cut(web, lot):
+    """The numbers of all ties with just one end in a lot."""
+    return [number for number, ends in enumerate(web[1]) if len(set(ends) & set(lot)) == 1]
+
+
+def slow_tight(web, lot):
+    """Whether each pairing has just one tie of a lot's cut."""
+    cut = set(slow_cut(web, lot))
+    return all([len(cut & set(row)) == 1 for row in quick_pairings(web)])
+
+
+def slow_inner(web):
+    """All inner tight lots of a web that have the place 0."""
+    rows = [set(row) for row in quick_pairings(web)]
+    found = []
+    for lot in all_lots(web):
+        if 0 in lot and 3 <= len(lot) <= web[0] - 3:
+            cut = set(slow_cut(web, lot))
+            found += [lot] if all([len(cut & row) == 1 for row in rows]) else []
+    return tuple(sorted(found))
+
+
 def slow_odd_rests(web, lot):
     """How many parts of a web without a lot are odd, the places of the lot being left aside."""
     bared = (web[0], tuple([(a, b) for a, b in web[1] if a not in lot and b not in lot]))
     return len([part for part in slow_parts(bared) if len(part) % 2 == 1 and part[0] not in lot])
+
+
+def expect(case, kind, told, call, *values):
+    """Fails if a call does not raise an error of just this kind that tells just this value."""
+    try:
+        found = call(*values)
+    except Exception as error:
+        case.assertIs(error.__class__, kind, (call, values))
+        case.assertEqual(len(vars(error)), 1, (call, values))
+        case.assertIs(list(vars(error).values())[0], told, (call, values))
+        return
+    case.fail(f"{call.__name__}{values} returned {found!r}")
+
+
+def expect_bad_webs(case, kind, call, *values):
+    """Fails if a call does not raise an error with each value in the place of a covered web."""
+    for web in NOT_WEBS + NOT_COVERED:
+        expect(case, kind, web, call, web, *values)

@@ -43,6 +43,35 @@ raises BadText(at=2)
 >>> SQUARE = (4, ((0, 1), (0, 3), (1, 2), (2, 3)))
 >>> [is_covered(SQUARE), is_covered(LINE), is_covered((1, ())), judge_covered(SQUARE), covered_holds(LINE, ('tie', 1, (1, 2))), covered_holds(SQUARE, ('covered', ((0, 3), (1, 2), (0, 3), (0, 3)))), covered_parts(LINE)]
 [True, False, False, ('covered', ((0, 3), (1, 2), (1, 2), (0, 3))), True, False, (((0, 1), (2, ((0, 1),))), ((2, 3), (2, ((0, 1),))))]
+>>> from oncecrossed.laid import laid
+>>> FULL = (4, ((0, 1), (0, 2), (0, 3), (1, 2), (1, 3), (2, 3)))
+>>> [laid(FULL, (2, 3)), laid(FULL, (0, 2, 3))]
+[((3, ((0, 1), (0, 2), (0, 2), (1, 2), (1, 2))), (0, 1, 2, 3, 4)), ((2, ((0, 1), (0, 1), (0, 1))), (0, 3, 4))]
+>>> from oncecrossed.laid import is_tight, joined_pairing, loose_pairing, sides_of, tight_lots
+>>> HEXAGON = (6, ((0, 1), (0, 5), (1, 2), (2, 3), (3, 4), (4, 5)))
+>>> SQUARE = (4, ((0, 1), (0, 3), (1, 2), (2, 3)))
+>>> [is_tight(HEXAGON, (0, 1, 2)), is_tight(HEXAGON, (3,)), is_tight(HEXAGON, (0, 1)), tight_lots(HEXAGON), sides_of(HEXAGON, (0, 1, 2)) == ((SQUARE, (0, 1, 2, 3)), (SQUARE, (4, 3, 5, 1))), joined_pairing(HEXAGON, (0, 1, 2), (0, 3), (1, 2)), joined_pairing(HEXAGON, (0, 1, 2), (0, 3), (0, 3)), loose_pairing(HEXAGON, (0, 2, 4)) in ((0, 3, 5), (1, 2, 4)), loose_pairing(HEXAGON, (0, 1, 2))]
+[True, True, False, ((0, 1, 2), (0, 1, 5), (0, 4, 5)), True, (0, 3, 5), None, True, None]
+>>> from oncecrossed.laid import is_tight, loose_pairing, tight_lots
+>>> PRISM = (6, ((0, 1), (0, 2), (0, 3), (1, 2), (1, 4), (2, 5), (3, 4), (3, 5), (4, 5)))
+>>> [loose_pairing(PRISM, (0, 1, 2)), is_tight(PRISM, (0, 1, 2)), tight_lots(PRISM)]
+[(2, 4, 5), False, ()]
+>>> from oncecrossed.barriers import akin_holds, barriers, classes, is_barrier, judge_akin
+>>> SQUARE = (4, ((0, 1), (0, 3), (1, 2), (2, 3)))
+>>> FULL = (4, ((0, 1), (0, 2), (0, 3), (1, 2), (1, 3), (2, 3)))
+>>> [classes(SQUARE), barriers(SQUARE), classes(FULL), is_barrier(SQUARE, (0, 1)), judge_akin(SQUARE, 0, 2), judge_akin(FULL, 0, 3), judge_akin(SQUARE, 0, 1), akin_holds(SQUARE, 1, 3, ('akin', (1, 3)))]
+[((0, 2), (1, 3)), ((0,), (0, 2), (1,), (1, 3), (2,), (3,)), ((0,), (1,), (2,), (3,)), False, ('akin', (0, 2)), ('apart', (3,)), ('apart', (3,)), True]
+>>> from oncecrossed.bricks import is_brace, is_brick, is_threefold, judge_piece, piece_holds, told_lot
+>>> FULL = (4, ((0, 1), (0, 2), (0, 3), (1, 2), (1, 3), (2, 3)))
+>>> HEXAGON = (6, ((0, 1), (0, 5), (1, 2), (2, 3), (3, 4), (4, 5)))
+>>> LENS = (6, ((0, 1), (0, 2), (0, 3), (0, 4), (0, 5), (1, 2), (1, 3), (1, 4), (1, 5), (2, 3), (4, 5)))
+>>> [is_brick(FULL), is_threefold(FULL), is_brace(HEXAGON), judge_piece((2, ((0, 1),))), judge_piece(FULL), told_lot(HEXAGON, ('barrier', (0, 2), (3, 4, 5))), piece_holds(LENS, ('two', 0, 1, (2, 3))), told_lot(LENS, ('two', 0, 1, (2, 3)))]
+[True, True, False, ('brace', ()), ('brick', ((5,), (4,), (3,), (2,), (1,), (0,))), (3, 4, 5), True, (0, 2, 3)]
+>>> from oncecrossed.lists import is_petersen, judge_list, list_holds, petersen
+>>> FULL = (4, ((0, 1), (0, 2), (0, 3), (1, 2), (1, 3), (2, 3)))
+>>> SQUARE = (4, ((0, 1), (0, 3), (1, 2), (2, 3)))
+>>> [petersen(), is_petersen(petersen()), judge_list((FULL, SQUARE), (SQUARE,)), judge_list((), ()), list_holds((FULL, SQUARE), (SQUARE, FULL), ('one', ((1, (0, 1, 2, 3)), (0, (1, 2, 3, 0)))))]
+[(10, ((0, 1), (0, 4), (0, 5), (1, 2), (1, 6), (2, 3), (2, 7), (3, 4), (3, 8), (4, 9), (5, 7), (5, 8), (6, 8), (6, 9), (7, 9))), True, None, ('one', ()), True]
 """
 
 

@@ -13,6 +13,13 @@ INTERFACE = {
     "pairings": ("is_pairing(web, thing)", "pairings(web)", "how_many(web)", "odd_rests(web, lot)",
                  "judge_pairing(web)", "pairing_holds(web, thing)"),
     "tiesin": ("judge_tie(web, number)", "tie_holds(web, number, thing)", "let_ties(web)", "needed_ties(web)"),
+    "laid": ("laid(web, lot)", "is_tight(web, lot)", "loose_pairing(web, lot)", "tight_lots(web)", "sides_of(web, lot)",
+             "joined_pairing(web, lot, near, far)"),
+    "barriers": ("is_barrier(web, thing)", "barriers(web)", "classes(web)", "judge_akin(web, one, other)",
+                 "akin_holds(web, one, other, thing)"),
+    "bricks": ("is_threefold(web)", "judge_piece(web)", "piece_holds(web, thing)", "is_brick(web)", "is_brace(web)",
+               "told_lot(web, thing)"),
+    "lists": ("petersen()", "is_petersen(web)", "judge_list(ones, others)", "list_holds(ones, others, thing)"),
     "covered": ("is_covered(thing)", "judge_covered(web)", "covered_holds(web, thing)", "covered_parts(web)"),
 }
 
