@@ -1,6 +1,7 @@
 """Webs, wrong values and slow but plain counterparts for the tests."""
 
 import random
+from fractions import Fraction
 from itertools import combinations, permutations, product
 
 FULL = (4, ((0, 1), (0, 2), (0, 3), (1, 2), (1, 3), (2, 3)))
@@ -123,7 +124,7 @@ def twisted(value):
         if isinstance(part, tuple):
             found.extend([ahead + (other,) + behind for other in twisted(part)])
         elif isinstance(part, int):
-            found.extend([ahead + (other,) + behind for other in (str(part), None, -1, 99, (part,))])
+            found.extend([ahead + (other,) + behind for other in (str(part), None, -1, 99, (part,)) if other != part])
             found.extend([ahead + (bool(part),) + behind] if part in (0, 1) else [])
         else:
             found.extend([ahead + (other,) + behind for other in (part + " ", None, 0, (part,))])
@@ -206,6 +207,52 @@ def slow_inner(web):
             cut = set(slow_cut(web, lot))
             found += [lot] if all([len(cut & row) == 1 for row in rows]) else []
     return tuple(sorted(found))
+
+
+def slow_laid(web, lot):
+    """A lot laid together: each tie is looked for among those between the two places that it then ties."""
+    names = [place for place in range(web[0]) if place not in lot] + ["lot"]
+    called = [["lot" if place in lot else place for place in ends] for ends in web[1]]
+    pairs = []
+    for a in range(len(names)):
+        for b in range(a + 1, len(names)):
+            for number, ends in enumerate(called):
+                if sorted(ends, key=str) == sorted([names[a], names[b]], key=str):
+                    pairs.append(((a, b), number))
+    return (len(names), tuple([ends for ends, _ in pairs])), tuple([number for _, number in pairs])
+
+
+def slow_total(web, terms):
+    """The sum of the rows of pairings, each times its integer."""
+    return tuple([sum([many for row, many in terms if number in row]) for number in range(len(web[1]))])
+
+
+def slow_sum(web, weights, lot):
+    """The sum of weights over a lot's cut."""
+    return sum([weights[number] for number in slow_cut(web, lot)])
+
+
+def slow_rank(rows):
+    """How many of some tuples of integers are independent, by fractions."""
+    left = [[Fraction(item) for item in row] for row in rows]
+    many = 0
+    for at in range(len(left[0]) if left else 0):
+        for row in left[many:]:
+            if row[at]:
+                left.remove(row)
+                left.insert(many, row)
+                many += 1
+                left[many:] = [[item - other[at] / row[at] * first for item, first in zip(other, row)]
+                               for other in left[many:]]
+                break
+    return many
+
+
+def is_slow_terms(web, terms):
+    """Whether a value of the right form is terms."""
+    ones = [row for row, _ in terms]
+    right = quick_pairings(web)
+    return ones == sorted(set(ones)) and all([row in right and many for row, many in terms])
 
 
 def slow_odd_rests(web, lot):

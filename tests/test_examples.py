@@ -67,11 +67,35 @@ raises BadText(at=2)
 >>> LENS = (6, ((0, 1), (0, 2), (0, 3), (0, 4), (0, 5), (1, 2), (1, 3), (1, 4), (1, 5), (2, 3), (4, 5)))
 >>> [is_brick(FULL), is_threefold(FULL), is_brace(HEXAGON), judge_piece((2, ((0, 1),))), judge_piece(FULL), told_lot(HEXAGON, ('barrier', (0, 2), (3, 4, 5))), piece_holds(LENS, ('two', 0, 1, (2, 3))), told_lot(LENS, ('two', 0, 1, (2, 3)))]
 [True, True, False, ('brace', ()), ('brick', ((5,), (4,), (3,), (2,), (1,), (0,))), (3, 4, 5), True, (0, 2, 3)]
+>>> from oncecrossed.takings import is_taking, leaves, lots_of, piece_numbers
+>>> HEXAGON = (6, ((0, 1), (0, 5), (1, 2), (2, 3), (3, 4), (4, 5)))
+>>> LENS = (6, ((0, 1), (0, 2), (0, 3), (0, 4), (0, 5), (1, 2), (1, 3), (1, 4), (1, 5), (2, 3), (4, 5)))
+>>> tree = ('cut', (0, 2, 3), ('piece',), ('piece',))
+>>> [is_taking(LENS, tree), leaves(LENS, tree)[0], lots_of(LENS, tree), piece_numbers(LENS), piece_numbers(HEXAGON)]
+[True, ((4, ((0, 1), (0, 2), (0, 3), (0, 3), (0, 3), (1, 2), (1, 3), (2, 3))), (1, 2, 0, 3, 4, 9, 5, 6)), ((0, 2, 3),), (2, 0, 0), (0, 0, 2)]
 >>> from oncecrossed.lists import is_petersen, judge_list, list_holds, petersen
 >>> FULL = (4, ((0, 1), (0, 2), (0, 3), (1, 2), (1, 3), (2, 3)))
 >>> SQUARE = (4, ((0, 1), (0, 3), (1, 2), (2, 3)))
 >>> [petersen(), is_petersen(petersen()), judge_list((FULL, SQUARE), (SQUARE,)), judge_list((), ()), list_holds((FULL, SQUARE), (SQUARE, FULL), ('one', ((1, (0, 1, 2, 3)), (0, (1, 2, 3, 0)))))]
 [(10, ((0, 1), (0, 4), (0, 5), (1, 2), (1, 6), (2, 3), (2, 7), (3, 4), (3, 8), (4, 9), (5, 7), (5, 8), (6, 8), (6, 9), (7, 9))), True, None, ('one', ()), True]
+>>> from oncecrossed.lists import petersen
+>>> from oncecrossed.spans import are_independent, judge_span, row_of, span_holds, span_number, total
+>>> SQUARE = (4, ((0, 1), (0, 3), (1, 2), (2, 3)))
+>>> LENS = (6, ((0, 1), (0, 2), (0, 3), (0, 4), (0, 5), (1, 2), (1, 3), (1, 4), (1, 5), (2, 3), (4, 5)))
+>>> [row_of(SQUARE, (0, 3)), total(SQUARE, (((0, 3), 2), ((1, 2), -1))), total(SQUARE, ()), judge_span(SQUARE, (1, 2, 2, 1))[0], span_holds(SQUARE, (1, 0, 0, 0), ('cuts', (0,), (2,))), are_independent(SQUARE, ((0, 3), (1, 2))), span_number(LENS), span_number(petersen())]
+[(1, 0, 0, 1), (2, -1, -1, 2), (0, 0, 0, 0), 'sums', True, True, 5, 6]
+>>> from oncecrossed.lists import petersen
+>>> from oncecrossed.wholesums import five_lots, five_rings, judge_whole, whole_holds
+>>> SQUARE = (4, ((0, 1), (0, 3), (1, 2), (2, 3)))
+>>> lots = tuple([(place,) for place in range(10)])
+>>> [five_lots(petersen()) == (lots,), len(five_rings(petersen(), lots)), judge_whole(petersen(), (1,) * 15)[0], whole_holds(petersen(), (1,) * 15, ('five', lots, (0, 1, 2, 3, 4))), judge_whole(petersen(), (2,) * 15)[0], five_lots(SQUARE)]
+[True, 12, 'five', True, 'whole', ()]
+>>> from oncecrossed.lists import petersen
+>>> from oncecrossed.mixes import judge_even, mix_holds, parted
+>>> FULL = (4, ((0, 1), (0, 2), (0, 3), (1, 2), (1, 3), (2, 3)))
+>>> TWO = (6, ((0, 1), (0, 2), (1, 2), (2, 3), (3, 4), (3, 5), (4, 5)))
+>>> [mix_holds(FULL, (2, 1, 0, 0, 1, 2), ('mix', 1, (((0, 5), 2), ((1, 4), 1)))), mix_holds(TWO, (1, 1, 1, 0, 1, 1, 1), ('odd', (0, 1, 2))), mix_holds((3, ()), (), ('mix', 7, ())), judge_even(petersen())[0], parted(petersen()), parted(FULL), parted((3, ()))]
+[True, True, True, 'mix', None, ((0, 5), (1, 4), (2, 3)), ()]
 """
 
 

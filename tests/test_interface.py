@@ -20,6 +20,13 @@ INTERFACE = {
     "bricks": ("is_threefold(web)", "judge_piece(web)", "piece_holds(web, thing)", "is_brick(web)", "is_brace(web)",
                "told_lot(web, thing)"),
     "lists": ("petersen()", "is_petersen(web)", "judge_list(ones, others)", "list_holds(ones, others, thing)"),
+    "takings": ("taking(web)", "is_taking(web, thing)", "leaves(web, tree)", "lots_of(web, tree)",
+                "taking_by(web, lots)", "piece_numbers(web)"),
+    "spans": ("row_of(web, pairing)", "total(web, terms)", "judge_span(web, weights)", "span_holds(web, weights, thing)",
+              "independent(web)", "span_number(web)", "are_independent(web, ones)"),
+    "wholesums": ("judge_whole(web, weights)", "whole_holds(web, weights, thing)", "five_lots(web)",
+                  "five_rings(web, lots)"),
+    "mixes": ("judge_mix(web, weights)", "mix_holds(web, weights, thing)", "judge_even(web)", "parted(web)"),
     "covered": ("is_covered(thing)", "judge_covered(web)", "covered_holds(web, thing)", "covered_parts(web)"),
 }
 

@@ -6,7 +6,7 @@ from itertools import product
 from helpers import (BARE, BIG_RING, COVERED, CUBE, DOUBLE_PETERSEN, FULL, HEXAGON, LADDER, LENS, NOT_WEBS, ODD_VALUES,
                      ONE, PETERSEN, PRISM, SPLIT_PETERSEN, SQUARE, THREES, TIED_PETERSEN, TWIN, WEBS, all_lots,
                      covered_webs, expect, expect_bad_webs, quick_pairings, random_webs, slow_cut, slow_inner,
-                     slow_tight, twisted)
+                     slow_laid, slow_tight, twisted)
 from oncecrossed.covered import is_covered
 from oncecrossed.errors import BadLot, BadPairing, BadWeb, NotTight
 from oncecrossed.laid import is_tight, joined_pairing, laid, loose_pairing, sides_of, tight_lots
@@ -14,19 +14,6 @@ from oncecrossed.pairings import is_pairing, pairings
 from oncecrossed.webs import is_web
 
 SMALL = tuple([web for web in COVERED if web[0] <= 8])
-
-
-def slow_laid(web, lot):
-    """A lot laid together: each tie is looked for among those between the two places that it then ties."""
-    names = [place for place in range(web[0]) if place not in lot] + ["lot"]
-    called = [["lot" if place in lot else place for place in ends] for ends in web[1]]
-    pairs = []
-    for a in range(len(names)):
-        for b in range(a + 1, len(names)):
-            for number, ends in enumerate(called):
-                if sorted(ends, key=str) == sorted([names[a], names[b]], key=str):
-                    pairs.append(((a, b), number))
-    return (len(names), tuple([ends for ends, _ in pairs])), tuple([number for _, number in pairs])
 
 
 def proper_lots(web):

@@ -169,14 +169,15 @@ class TestTrees(unittest.TestCase):
                     self.assertIn(node, inside, (name, node.lineno))
 
     def test_views_are_iterated_at_once(self):
-        takers = ("list", "tuple", "dict", "sorted", "sum", "any", "all", "enumerate", "zip", "len", "min", "max")
+        takers = ("list", "tuple", "dict", "sorted", "sum", "any", "all", "enumerate", "zip", "len", "min", "max",
+                  "combinations", "product", "permutations")
         for name, tree in TREES.items():
             inside = [node.iter for node in ast.walk(tree) if isinstance(node, (ast.For, ast.comprehension))]
             inside += [part for node in ast.walk(tree) if isinstance(node, ast.Call) and isinstance(node.func, ast.Name)
                        and node.func.id in takers for part in node.args[:1]]
             for node in ast.walk(tree):
                 if isinstance(node, ast.Call) and isinstance(node.func, ast.Name):
-                    if node.func.id in ("zip", "enumerate", "reversed", "range"):
+                    if node.func.id in ("zip", "enumerate", "reversed", "range", "combinations", "product", "permutations"):
                         self.assertIn(node, inside, (name, node.lineno))
 
 
