@@ -24,17 +24,25 @@ def judge_mix(web, weights):
 
 def judged_mix(web, weights):
     """The same for what surely are weights of a web of two places or more."""
+    cuts = OddCuts(web)
+    paper = no_mix(web, weights, cuts)
+    if paper is not None:
+        return paper
+    return mixed(Mixing(web, weights, cuts))
+
+
+def no_mix(web, weights, cuts):
+    """A certificate that weights are no mix of pairings, None if they are one."""
     for number, weight in enumerate(weights):
         if weight < 0:
             return ("below", number)
     for other in range(web[0]):
         if cut_sum(web, weights, (other,)) != cut_sum(web, weights, (0,)):
             return ("stars", 0, other)
-    cuts = OddCuts(web)
     lot = cuts.poor_lot(weights, cut_sum(web, weights, (0,)))
     if lot is not None:
         return ("odd", lot)
-    return mixed(Mixing(web, weights, cuts))
+    return None
 
 
 class OddCuts:
@@ -76,7 +84,7 @@ class Mixing:
         self.shares = []
         self.cuts = cuts.cuts
         matcher = Matcher(web)
-        self.rows = matcher.pairings_of(matcher.full)
+        self.rows = [(row, mask_of(row)) for row in matcher.pairings_of(matcher.full)]
 
     def over(self, cut):
         """What is left over a cut."""
@@ -84,12 +92,12 @@ class Mixing:
 
     def tighten(self):
         """Leaves the pairings that have no tie without anything left, and one tie of each cut with just enough."""
-        rows = [row for row in self.rows if all([self.left[number] > 0 for number in row])]
+        rows = [(row, mask) for row, mask in self.rows if all([self.left[number] > 0 for number in row])]
         loose = []
         for cut in self.cuts:
             if self.over(cut) == self.star:
-                mask = mask_of(cut)
-                rows = [row for row in rows if is_single(mask_of(row) & mask)]
+                bits = mask_of(cut)
+                rows = [(row, mask) for row, mask in rows if is_single(mask & bits)]
             else:
                 loose.append(cut)
         self.rows = rows
@@ -108,7 +116,7 @@ class Mixing:
     def take(self):
         """Takes the greatest share of the first pairing that is left."""
         self.tighten()
-        row = self.rows[0]
+        row = self.rows[0][0]
         share, by = self.most(row)
         grow = by // gcd(share, by)
         self.left = [grow * weight for weight in self.left]
@@ -170,7 +178,8 @@ def judge_even(web):
 
 def parted(web):
     """Pairings of which each tie of a web has just one, ascending; None if there are none."""
-    if judge_even(web)[0] != "mix":
+    check_two_places(web)
+    if no_mix(web, (1,) * len(web[1]), OddCuts(web)) is not None:
         return None
     plain = plain_of(web)
     numbers = [[number for number, ends in enumerate(web[1]) if ends == pair] for pair in plain[1]]

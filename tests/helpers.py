@@ -33,6 +33,9 @@ TIED_PETERSEN = (12, tuple(sorted(PETERSEN[1] + ((0, 10), (0, 11), (1, 10), (1, 
 DOUBLE_PETERSEN = (10, tuple(sorted(PETERSEN[1] * 2)))
 # Twelve places round, with two ties to each of the next ones and one to the opposite one.
 BIG_RING = (12, tuple(sorted([(a, a + 1) for a in range(11)] * 2 + [(0, 11), (0, 11)] + [(a, a + 6) for a in range(6)])))
+# Twelve places round, with so many ties to the next ones that the web has 30 ties and 1,736 pairings.
+THICK_RING = (12, tuple(sorted([ends for ends, many in zip([(a, a + 1) for a in range(11)] + [(0, 11)],
+                                                           (4, 2, 4, 2, 4, 2, 3, 1, 3, 1, 3, 1)) for _ in range(many)])))
 LADDER = (12, tuple(sorted([(a, a + 6) for a in range(6)] + [(a, a + 1) for a in range(11) if a != 5] * 2)))
 COVERED = ((2, ((0, 1),)), TWIN, (2, ((0, 1),) * 30), SQUARE, FULL, HEXAGON, PRISM, LENS, THREES, CUBE, WHEEL, CUT_PRISM,
            PETERSEN, CUT_PETERSEN, SPLIT_PETERSEN, TIED_PETERSEN, DOUBLE_PETERSEN, BIG_RING, LADDER, (4, ((0, 1), (0, 1), (0, 3), (0, 3), (1, 2), (2, 3), (2, 3))))

@@ -4,7 +4,7 @@ import unittest
 from itertools import product
 
 from helpers import (BARE, BIG_RING, COVERED, CUBE, DOUBLE_PETERSEN, FULL, HEXAGON, LADDER, LENS, NOT_WEBS, ODD_VALUES,
-                     ONE, PETERSEN, PRISM, SPLIT_PETERSEN, SQUARE, THREES, TIED_PETERSEN, TWIN, WEBS, all_lots,
+                     ONE, PETERSEN, PRISM, SPLIT_PETERSEN, SQUARE, THICK_RING, THREES, TIED_PETERSEN, TWIN, WEBS, all_lots,
                      covered_webs, expect, expect_bad_webs, quick_pairings, random_webs, slow_cut, slow_inner,
                      slow_laid, slow_tight, twisted)
 from oncecrossed.covered import is_covered
@@ -83,7 +83,7 @@ class TestTight(unittest.TestCase):
                     self.assertNotEqual(len(set(loose) & set(slow_cut(web, lot))), 1)
 
     def test_great_webs(self):
-        for web in (PETERSEN, DOUBLE_PETERSEN, SPLIT_PETERSEN, TIED_PETERSEN, BIG_RING, LADDER):
+        for web in (PETERSEN, DOUBLE_PETERSEN, SPLIT_PETERSEN, TIED_PETERSEN, BIG_RING, THICK_RING, LADDER):
             for lot in proper_lots(web)[::29] + [(0,), (0, 1, 2), (9, 10, 11)[:web[0] - 9]]:
                 self.assertIs(is_tight(web, lot), slow_tight(web, lot), (web, lot))
         self.assertIs(is_tight(SPLIT_PETERSEN, (9, 10, 11)), True)

@@ -5,7 +5,7 @@ import unittest
 from itertools import combinations, product
 
 from helpers import (BARE, BIG_RING, COVERED, CUBE, CUT_PETERSEN, DOUBLE_PETERSEN, FULL, HEXAGON, LADDER, LINE, NOT_WEBS,
-                     ODD_VALUES, ONE, PENTAGON, PETERSEN, PRISM, SQUARE, STAR, THREES, TRIANGLE, TWIN, TWO_SQUARES,
+                     ODD_VALUES, ONE, PENTAGON, PETERSEN, PRISM, SQUARE, STAR, THICK_RING, THREES, TRIANGLE, TWIN, TWO_SQUARES,
                      TWO_TRIANGLES, WEBS, all_lots, covered_webs, expect, is_slow_terms, quick_pairings, random_webs,
                      slow_sum, slow_total, twisted)
 from oncecrossed.errors import BadWeb, BadWeights
@@ -125,9 +125,10 @@ class TestMixes(unittest.TestCase):
     def test_many_pairings(self):
         chance = random.Random(143)
         thick = (4, tuple(sorted(FULL[1] * 5)))
-        webs = [BIG_RING, LADDER, DOUBLE_PETERSEN, FULL_EIGHT, thick, (2, ((0, 1),) * 30), (6, tuple(sorted(FULL_SIX[1] * 2)))]
+        webs = [BIG_RING, LADDER, THICK_RING, DOUBLE_PETERSEN, FULL_EIGHT, thick, (2, ((0, 1),) * 30), (6, tuple(sorted(FULL_SIX[1] * 2)))]
         for web in webs:
             rows = quick_pairings(web)
+            self.assertEqual(len(rows) == 1736, web is THICK_RING)
             for many in (1, 5, 60):
                 some = [(row, chance.randint(1, 10000)) for row in chance.sample(rows, min(many, len(rows)))]
                 weights = slow_total(web, some)

@@ -4,7 +4,7 @@ import random
 import unittest
 
 from helpers import (BIG_RING, COVERED, CUBE, DOUBLE_PETERSEN, FULL, HEXAGON, LADDER, LENS, NOT_WEBS, ODD_VALUES, ONE,
-                     PETERSEN, SPLIT_PETERSEN, SQUARE, TIED_PETERSEN, TRIANGLE, TWIN, WEBS, all_lots, covered_webs, expect,
+                     PETERSEN, SPLIT_PETERSEN, SQUARE, THICK_RING, TIED_PETERSEN, TRIANGLE, TWIN, WEBS, all_lots, covered_webs, expect,
                      expect_bad_webs, is_slow_terms, quick_pairings, random_webs, slow_rank, slow_sum, slow_tight,
                      slow_total, twisted)
 from oncecrossed.errors import BadPairing, BadTerms, BadWeb, BadWeights
@@ -97,7 +97,7 @@ class TestSpan(unittest.TestCase):
 
     def test_great_webs(self):
         chance = random.Random(114)
-        for web in (BIG_RING, LADDER, DOUBLE_PETERSEN, TIED_PETERSEN) + tuple(covered_webs(115, 25, 12, 30)):
+        for web in (BIG_RING, LADDER, THICK_RING, DOUBLE_PETERSEN, TIED_PETERSEN) + tuple(covered_webs(115, 25, 12, 30)):
             for weights in some_weights(web, chance):
                 paper = judge_span(web, weights)
                 self.assertTrue(slow_holds(web, weights, paper), (web, weights, paper))

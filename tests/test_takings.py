@@ -4,7 +4,7 @@ import unittest
 from itertools import combinations
 
 from helpers import (BIG_RING, COVERED, CUBE, CUT_PETERSEN, DOUBLE_PETERSEN, FULL, HEXAGON, LADDER, LENS, ODD_VALUES,
-                     PETERSEN, PRISM, SPLIT_PETERSEN, SQUARE, THREES, TIED_PETERSEN, TWIN, all_lots, covered_webs, expect,
+                     PETERSEN, PRISM, SPLIT_PETERSEN, SQUARE, THICK_RING, THREES, TIED_PETERSEN, TWIN, all_lots, covered_webs, expect,
                      expect_bad_webs, slow_inner, slow_laid, slow_led, slow_tight, twisted)
 from oncecrossed.bricks import is_brace, is_brick
 from oncecrossed.errors import BadLots, BadTaking, BadWeb
@@ -106,7 +106,7 @@ class TestTakings(unittest.TestCase):
             self.assertEqual(lots_of(web, PIECE), ())
 
     def test_takings_of_great_webs(self):
-        for web in list(COVERED) + [OCTAGON, DECAGON, FOUR_FULL] + covered_webs(101, 120, 12, 30):
+        for web in list(COVERED) + [OCTAGON, DECAGON, FOUR_FULL, THICK_RING] + covered_webs(101, 120, 12, 30):
             tree = taking(web)
             self.assertIs(is_taking(web, tree), True, (web, tree))
             found = leaves(web, tree)

@@ -6,7 +6,7 @@ from functools import lru_cache
 from itertools import combinations
 
 from helpers import (BIG_RING, COVERED, CUBE, CUT_PETERSEN, DOUBLE_PETERSEN, FULL, HEXAGON, LADDER, LENS, ODD_VALUES,
-                     PETERSEN, SPLIT_PETERSEN, SQUARE, THREES, TIED_PETERSEN, TWIN, covered_webs, expect, expect_bad_webs,
+                     PETERSEN, SPLIT_PETERSEN, SQUARE, THICK_RING, THREES, TIED_PETERSEN, TWIN, covered_webs, expect, expect_bad_webs,
                      is_slow_terms, quick_pairings, slow_led, slow_sum, slow_tight, slow_total, twisted)
 from oncecrossed.errors import BadLots, BadWeb, BadWeights
 from oncecrossed.lists import is_petersen
@@ -88,7 +88,7 @@ class TestWhole(unittest.TestCase):
     def test_judged(self):
         chance = random.Random(130)
         kinds = {"whole": 0, "cuts": 0, "five": 0}
-        for web in list(COVERED) + list(WITH_PETERSEN) * 4 + covered_webs(131, 70, 12, 24):
+        for web in list(COVERED) + [THICK_RING] + list(WITH_PETERSEN) * 4 + covered_webs(131, 70, 12, 24):
             for weights in some_weights(web, chance):
                 paper = judge_whole(web, weights)
                 kinds[paper[0]] += 1
