@@ -151,6 +151,9 @@ class TestSteps(unittest.TestCase):
         self.assertIs(steps.put([2, 3]), True)
         self.assertIs(steps.put([0, 0]), False)
         self.assertEqual(sorted(steps.rows), [0, 1])
+        steps = Steps(2)
+        told = [steps.put(row) for row in ([2, 0], [0, 1], [1, 1], [7, 7])]
+        self.assertEqual(told, [True, True, True, False])
 
     def test_multiples(self):
         # Of 6 and 4 in the first column comes 2; the integers behind tell how.
