@@ -48,7 +48,8 @@ def no_mix(web, weights, cuts):
 class OddCuts:
     """The odd lots of a web that can have less over their cuts than a star has.
 
-    The rest of an odd lot of an even number of places is odd, too, so those with the place 0 do.
+    The rest of an odd lot of an even number of places is odd, too, so those with the place 0 do. If the number of
+    places is odd, the lot of all of them does: its cut has no tie.
     """
 
     def __init__(self, web):

@@ -109,6 +109,18 @@ class TestWhole(unittest.TestCase):
                     paper = judge_span(web, weights)
                     self.assertIs(span_holds(web, weights, paper), True)
 
+    def test_petersen_with_a_tie_more(self):
+        # It is no Petersen brick any longer, so what bars the sum of all its old ties goes with the new one.
+        for ends in [ends for ends in combinations(range(10), 2) if ends not in PETERSEN[1]]:
+            for renaming in (tuple(range(10)), (3, 8, 1, 9, 0, 6, 2, 7, 5, 4), (9, 8, 7, 6, 5, 4, 3, 2, 1, 0)):
+                new = tuple(sorted([renaming[place] for place in ends]))
+                web = slow_led((10, tuple(sorted(PETERSEN[1] + (ends,)))), renaming)
+                weights = tuple([int(pair != new) for pair in web[1]])
+                paper = judge_whole(web, weights)
+                self.assertEqual(paper[0], "whole", web)
+                self.assertTrue(slow_holds(web, weights, paper))
+                self.assertEqual(judge_span(web, weights)[:2], ("sums", 1))
+
     def test_known(self):
         self.assertEqual(judge_whole(web=PETERSEN, weights=(1,) * 15)[0], "five")
         self.assertEqual(judge_whole(PETERSEN, (2,) * 15)[0], "whole")
