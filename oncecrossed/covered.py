@@ -4,7 +4,7 @@ from oncecrossed.errors import BadWeb, NoPairing
 from oncecrossed.masks import Matcher
 from oncecrossed.pairings import bars_pairings, is_pairing_of, judged_pairing
 from oncecrossed.tiesin import bars_tie, judged_tie, let_ties
-from oncecrossed.webs import check_web, is_tie_number, is_told, is_web, part_lots, web_of
+from oncecrossed.webs import check_web, is_tie_number, is_told, is_web, part_lots, web_of, web_with
 
 
 def is_one_part(web):
@@ -75,5 +75,5 @@ def covered_parts(web):
     let = let_ties(web)
     if not let:
         raise NoPairing()
-    left = (web[0], tuple([web[1][number] for number in let]))
+    left = web_with(web, let)
     return tuple([(lot, web_of(left, lot)) for lot in part_lots(left)])

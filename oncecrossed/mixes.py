@@ -31,14 +31,22 @@ def judged_mix(web, weights):
     return mixed(Mixing(web, weights, cuts))
 
 
-def no_mix(web, weights, cuts):
-    """A certificate that weights are no mix of pairings, None if they are one."""
+def stars_paper(web, weights):
+    """A certificate of the kinds "below" and "stars", None if there is none."""
     for number, weight in enumerate(weights):
         if weight < 0:
             return ("below", number)
     for other in range(web[0]):
         if cut_sum(web, weights, (other,)) != cut_sum(web, weights, (0,)):
             return ("stars", 0, other)
+    return None
+
+
+def no_mix(web, weights, cuts):
+    """A certificate that weights are no mix of pairings, None if they are one."""
+    paper = stars_paper(web, weights)
+    if paper is not None:
+        return paper
     lot = cuts.poor_lot(weights, cut_sum(web, weights, (0,)))
     if lot is not None:
         return ("odd", lot)
@@ -144,6 +152,13 @@ def are_unlike_stars(web, weights, one, other):
     return cut_sum(web, weights, (one,)) != cut_sum(web, weights, (other,))
 
 
+def tells_stars(web, weights, thing):
+    """Whether any value is a certificate of the kinds "below" or "stars"."""
+    if is_told(thing, "below", 2):
+        return is_tie_number(web, thing[1]) and weights[thing[1]] < 0
+    return is_told(thing, "stars", 3) and are_unlike_stars(web, weights, thing[1], thing[2])
+
+
 def is_poor_lot(web, weights, lot):
     """Whether any value is an odd lot over whose cut weights have a sum less than that over the star of the place 0."""
     if not is_lot_of(web, lot) or len(lot) % 2 == 0:
@@ -164,11 +179,9 @@ def mix_holds(web, weights, thing):
     check_weights(web, weights)
     if is_told(thing, "mix", 3):
         return is_mixed(web, weights, thing[1], thing[2])
-    if is_told(thing, "below", 2):
-        return is_tie_number(web, thing[1]) and weights[thing[1]] < 0
-    if is_told(thing, "stars", 3):
-        return are_unlike_stars(web, weights, thing[1], thing[2])
-    return is_told(thing, "odd", 2) and is_poor_lot(web, weights, thing[1])
+    if is_told(thing, "odd", 2):
+        return is_poor_lot(web, weights, thing[1])
+    return tells_stars(web, weights, thing)
 
 
 def judge_even(web):

@@ -123,6 +123,16 @@ def web_of(web, lot):
     return (len(lot), tuple([(names[a], names[b]) for a, b in web[1] if a in names and b in names]))
 
 
+def web_with(web, numbers):
+    """The web of all places with some of the ties, in their order."""
+    return (web[0], tuple([web[1][number] for number in numbers]))
+
+
+def numbers_but(web, numbers):
+    """The numbers of all ties that are not among some."""
+    return tuple([number for number in range(len(web[1])) if number not in numbers])
+
+
 def within(web, lot):
     """The web within a lot that has a place."""
     check_web(web)

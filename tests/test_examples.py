@@ -96,6 +96,28 @@ raises BadText(at=2)
 >>> TWO = (6, ((0, 1), (0, 2), (1, 2), (2, 3), (3, 4), (3, 5), (4, 5)))
 >>> [mix_holds(FULL, (2, 1, 0, 0, 1, 2), ('mix', 1, (((0, 5), 2), ((1, 4), 1)))), mix_holds(TWO, (1, 1, 1, 0, 1, 1, 1), ('odd', (0, 1, 2))), mix_holds((3, ()), (), ('mix', 7, ())), judge_even(petersen())[0], parted(petersen()), parted(FULL), parted((3, ()))]
 [True, True, True, 'mix', None, ((0, 5), (1, 4), (2, 3)), ()]
+>>> from oncecrossed.halves import halves, halves_hold, ringed_half, row_of_half
+>>> FULL = (4, ((0, 1), (0, 2), (0, 3), (1, 2), (1, 3), (2, 3)))
+>>> TWO = (6, ((0, 1), (0, 2), (1, 2), (2, 3), (3, 4), (3, 5), (4, 5)))
+>>> [halves(FULL), ringed_half(FULL), ringed_half(TWO), row_of_half(TWO, ringed_half(TWO)), halves_hold(TWO, (1, 1, 1, 0, 1, 1, 1), ('halves', 1, ((ringed_half(TWO), 1),)))]
+[(((), (0, 5)), ((), (1, 4)), ((), (2, 3))), None, (((0, 2, 1), (4, 6, 5)), ()), (1, 1, 1, 0, 1, 1, 1), True]
+>>> from oncecrossed.critical import critical_holds, is_critical, judge_critical, leaving, shrinking_ring
+>>> TRIANGLE = (3, ((0, 1), (0, 2), (1, 2)))
+>>> FORK = (3, ((0, 1), (0, 2)))
+>>> BOW = (5, ((0, 1), (0, 2), (0, 3), (0, 4), (1, 2), (3, 4)))
+>>> [is_critical(TRIANGLE), leaving(TRIANGLE, 1), judge_critical(FORK), critical_holds(FORK, ('lot', ())), critical_holds(BOW, ('ears', ((0, 4, 1), (2, 5, 3)))), judge_critical((2, ((0, 1),))), shrinking_ring((1, ()))]
+[True, (1,), ('lot', (0,)), False, True, ('even',), None]
+>>> from oncecrossed.ears import ears_hold, is_row, judge_ears, least_doubles, pairings_along
+>>> FULL = (4, ((0, 1), (0, 2), (0, 3), (1, 2), (1, 3), (2, 3)))
+>>> SQUARE = (4, ((0, 1), (0, 3), (1, 2), (2, 3)))
+>>> row = (0, (((1, 5, 4),), ((2,), (3,))))
+>>> [least_doubles(SQUARE), least_doubles(FULL), is_row(FULL, row), is_row(FULL, (0, (((1, 5, 4),), ((2,),), ((3,),)))), ears_hold(FULL, 1, ('ears', row)), judge_ears(FULL, 0), pairings_along(FULL, row)]
+[0, 1, True, False, True, ('pieces', ('piece',)), ((0, 5), (1, 4), (2, 3))]
+>>> from oncecrossed.leaning import flocks, judge_leaning, leaning_holds
+>>> FULL = (4, ((0, 1), (0, 2), (0, 3), (1, 2), (1, 3), (2, 3)))
+>>> MORE = (4, ((0, 1), (0, 1), (0, 2), (0, 3), (1, 2), (1, 3), (2, 3)))
+>>> [flocks(FULL), judge_leaning(FULL, 0, 1), leaning_holds(FULL, 0, 5, ('leans', (0, 1))), flocks(MORE), judge_leaning(MORE, 6, 0)]
+[((0, 5), (1, 4), (2, 3)), ('free', (0, 5)), True, ((0,), (1,), (2, 5), (3, 4), (6,)), ('free', (1, 6))]
 """
 
 

@@ -27,6 +27,13 @@ INTERFACE = {
     "wholesums": ("judge_whole(web, weights)", "whole_holds(web, weights, thing)", "five_lots(web)",
                   "five_rings(web, lots)"),
     "mixes": ("judge_mix(web, weights)", "mix_holds(web, weights, thing)", "judge_even(web)", "parted(web)"),
+    "halves": ("is_half(web, thing)", "row_of_half(web, half)", "halves(web)", "judge_halves(web, weights)",
+               "halves_hold(web, weights, thing)", "ringed_half(web)"),
+    "critical": ("is_critical(thing)", "leaving(web, place)", "are_ears(web, thing)", "judge_critical(web)",
+                 "critical_holds(web, thing)", "shrinking_ring(web)"),
+    "ears": ("is_row(web, thing)", "least_doubles(web)", "judge_ears(web, k)", "ears_hold(web, k, thing)",
+             "pairings_along(web, row)"),
+    "leaning": ("judge_leaning(web, one, other)", "leaning_holds(web, one, other, thing)", "flocks(web)"),
     "covered": ("is_covered(thing)", "judge_covered(web)", "covered_holds(web, thing)", "covered_parts(web)"),
 }
 
