@@ -25,9 +25,14 @@ def laid_of(web, lot):
     """The same for what surely can be laid together."""
     rest = places_but(web, lot)
     names = {place: at for at, place in enumerate(rest)}
-    called = [(names.get(a, len(rest)), names.get(b, len(rest)), number) for number, (a, b) in enumerate(web[1])]
+    return called_anew(web, [names.get(place, len(rest)) for place in range(web[0])])
+
+
+def called_anew(web, names):
+    """The web in which each place has a name, perhaps several one, with the numbers that its ties have in the web."""
+    called = [(names[a], names[b], number) for number, (a, b) in enumerate(web[1])]
     ties = sorted([(min(a, b), max(a, b), number) for a, b, number in called if a != b])
-    return (len(rest) + 1, tuple([(a, b) for a, b, _ in ties])), tuple([number for _, _, number in ties])
+    return (max(names) + 1, tuple([(a, b) for a, b, _ in ties])), tuple([number for _, _, number in ties])
 
 
 def loose_row(web, lot):

@@ -17,20 +17,31 @@ def check_leaning(web, one, other):
         raise BadTie(other)
 
 
-def judged_leaning(web, one, other):
-    """A certificate as judge_leaning returns one, for what surely are two ties of a covered web."""
-    kept = numbers_but(web, (other,))
-    left = web_with(web, kept)
-    kind, paper = judged_tie(Matcher(left), left, kept.index(one))
-    if kind == "lot":
-        return ("leans", paper)
-    return ("free", tuple([kept[number] for number in paper]))
+class Without:
+    """A covered web without one of its ties, and the ties that lean on that tie."""
+
+    def __init__(self, web, other):
+        self.kept = numbers_but(web, (other,))
+        self.web = web_with(web, self.kept)
+        self.matcher = Matcher(self.web)
+
+    def judged(self, one):
+        """A certificate as judge_leaning returns one, for a tie that is left."""
+        kind, paper = judged_tie(self.matcher, self.web, self.kept.index(one))
+        if kind == "lot":
+            return ("leans", paper)
+        return ("free", tuple([self.kept[at] for at in paper]))
+
+    def leaning(self):
+        """The numbers of all ties that lean on the tie."""
+        return [number for number, ends in zip(self.kept, self.web[1])
+                if self.matcher.missed(rest_beside(self.matcher, ends))]
 
 
 def judge_leaning(web, one, other):
     """A certificate: a pairing that has the first tie and not the second one, or a lot that bars all such pairings."""
     check_leaning(web, one, other)
-    return judged_leaning(web, one, other)
+    return Without(web, other).judged(one)
 
 
 def bars_leaning(web, one, other, thing):
@@ -48,13 +59,6 @@ def leaning_holds(web, one, other, thing):
     return is_told(thing, "leans", 2) and bars_leaning(web, one, other, thing[1])
 
 
-def leaning_on(web, other):
-    """The numbers of all ties of what is surely a covered web that lean on a tie, ascending."""
-    kept = numbers_but(web, (other,))
-    matcher = Matcher(web_with(web, kept))
-    return [one for one in kept if matcher.missed(rest_beside(matcher, web[1][one]))]
-
-
 def flocks(web):
     """The flocks of the ties of a covered web, ascending."""
     check_covered(web)
@@ -64,7 +68,7 @@ def flocks(web):
 def flocks_of(web):
     """The same for what is surely a covered web."""
     numbers = numbers_but(web, ())
-    leaning = [leaning_on(web, other) for other in numbers]
+    leaning = [Without(web, other).leaning() for other in numbers]
     twins = [[other for other in numbers if other == one or one in leaning[other] and other in leaning[one]]
              for one in numbers]
     return tuple(sorted(set([tuple(flock) for flock in twins])))

@@ -4,6 +4,8 @@ import random
 from fractions import Fraction
 from itertools import combinations, permutations, product
 
+from oncecrossed.workshops import Workshop
+
 FULL = (4, ((0, 1), (0, 2), (0, 3), (1, 2), (1, 3), (2, 3)))
 SQUARE = (4, ((0, 1), (0, 3), (1, 2), (2, 3)))
 TRIANGLE = (3, ((0, 1), (0, 2), (1, 2)))
@@ -54,7 +56,10 @@ WEBS = (ONE, BARE, (2, ()), (2, ((0, 1),)), TWIN, TRIANGLE, LINE, STAR, SQUARE, 
 NOT_COVERED = (ONE, BARE, (2, ()), TRIANGLE, LINE, STAR, TWO_SQUARES, TWO_TRIANGLES, (4, ((0, 1), (2, 3))),
                (4, ((0, 1), (0, 1), (2, 3), (2, 3), (2, 3))), (6, PRISM[1][:6] + PRISM[1][7:]), (10, PETERSEN[1][:9]))
 
-NOT_WEBS = (None, True, False, 0, 1, 2, -5, 10 ** 99, "", "web", "places 1", (), [], {}, (1,), [1, ()], (1, ()) * 2,
+# A workshop is a value, too, and none that is asked for anywhere.
+SHOP = Workshop((2, ((0, 1),)), strict=True)
+
+NOT_WEBS = (SHOP, (SHOP, ()), (2, SHOP), (2, (SHOP,)), (2, ((0, SHOP),)), (2, ((0, 1), SHOP)), [SHOP], (SHOP, SHOP), None, True, False, 0, 1, 2, -5, 10 ** 99, "", "web", "places 1", (), [], {}, (1,), [1, ()], (1, ()) * 2,
             (1, (), ()), (True, ()), (False, ()), (0, ()), (-1, ()), (13, ()), (10 ** 99, ()), ("1", ()), (None, ()),
             (1, []), (1, {}), (1, None), (1, ""), (1, 0), ((), 1), (1, ((0, 0),)), (1, ((0, 1),)),
             (2, [(0, 1)]), (2, ([0, 1],)), (2, ((1, 0),)), (2, ((0, 0),)), (2, ((0, 2),)), (2, ((-1, 1),)),
@@ -64,7 +69,7 @@ NOT_WEBS = (None, True, False, 0, 1, 2, -5, 10 ** 99, "", "web", "places 1", (),
             (2, ((0, 10 ** 99),)), (((((), ((),)),), {"a": [1]}), [[[]]]), "2" * 2000, (2, (True, False)),
             (2, (((0,), (1,)),)), ((2,), ((0, 1),)))
 
-ODD_VALUES = (None, True, False, 0, 1, -1, 7, 10 ** 99, -10 ** 99, "", "a", "sides", "pairing", "lot", "\n", (), [], {},
+ODD_VALUES = (SHOP, (SHOP,), [SHOP], {0: SHOP}, (SHOP, ()), ("lot", SHOP), ("pairing", (SHOP,)), ((SHOP,), 1), None, True, False, 0, 1, -1, 7, 10 ** 99, -10 ** 99, "", "a", "sides", "pairing", "lot", "\n", (), [], {},
               [0], [0, 1], {0: 1}, (0,), (1, 0), (0, 0), (0, 1), (0, 1, 2), (True,), (False,), (False, True), (0, True),
               (None,), ("0",), ("a", "b"), ((),), ((0, 1),), ([0],), ({},), (-1,), (-1, 0), (12,), (0, 12),
               (10 ** 99,), (0, None), (0, "1"), (0, [1]), ("sides",), ("sides", ()), ("sides", []), ("ring", ()),
@@ -123,7 +128,7 @@ def twisted(value):
     found = [list(value), value + (None,), [value], (value,)]
     for at, part in enumerate(value):
         ahead, behind = value[:at], value[at + 1:]
-        found.append(ahead + behind)
+        found.extend([ahead + behind, ahead + (SHOP,) + behind])
         if isinstance(part, tuple):
             found.extend([ahead + (other,) + behind for other in twisted(part)])
         elif isinstance(part, int):

@@ -118,6 +118,43 @@ raises BadText(at=2)
 >>> MORE = (4, ((0, 1), (0, 1), (0, 2), (0, 3), (1, 2), (1, 3), (2, 3)))
 >>> [flocks(FULL), judge_leaning(FULL, 0, 1), leaning_holds(FULL, 0, 5, ('leans', (0, 1))), flocks(MORE), judge_leaning(MORE, 6, 0)]
 [((0, 5), (1, 4), (2, 3)), ('free', (0, 5)), True, ((0,), (1,), (2, 5), (3, 4), (6,)), ('free', (1, 6))]
+>>> from oncecrossed.spare import judge_spare, keeping_ties, lean_holds, spare_holds, spare_pairs, spare_ties, thinning
+>>> FULL = (4, ((0, 1), (0, 2), (0, 3), (1, 2), (1, 3), (2, 3)))
+>>> SQUARE = (4, ((0, 1), (0, 3), (1, 2), (2, 3)))
+>>> MORE = (4, ((0, 1), (0, 1), (0, 2), (0, 3), (1, 2), (1, 3), (2, 3)))
+>>> [spare_ties(FULL), spare_pairs(FULL), spare_holds(FULL, 0, ('held', 5, (2, 3))), spare_ties(MORE), keeping_ties(MORE), spare_pairs(SQUARE), thinning(SQUARE), judge_spare((2, ((0, 1), (0, 1))), 0), judge_spare((2, ((0, 1),)), 0)]
+[(), ((0, 5), (1, 4), (2, 3)), True, (0, 1), (0, 1), (), (), ('spare', ((1,),)), ('alone',)]
+>>> from oncecrossed.turnings import freedom, pairings_of_both, rings_between, turn_row, turned, turning_rings
+>>> FULL = (4, ((0, 1), (0, 2), (0, 3), (1, 2), (1, 3), (2, 3)))
+>>> SQUARE = (4, ((0, 1), (0, 3), (1, 2), (2, 3)))
+>>> TWINS = (4, ((0, 1), (0, 1), (2, 3), (2, 3)))
+>>> [rings_between(SQUARE, (0, 3), (1, 2)), turned(SQUARE, (0, 3), (0, 1, 3, 2)), turn_row(SQUARE, (0, 3), (0, 1, 3, 2)), freedom(SQUARE), turning_rings(FULL, (0, 5), 4), freedom(FULL), pairings_of_both(TWINS, (0, 2), (1, 3)), rings_between(TWINS, (0, 2), (1, 3))]
+[((0, 1, 3, 2),), (1, 2), (-1, 1, 1, -1), 1, ((0, 1, 5, 4), (0, 2, 5, 3)), 2, ((0, 2), (0, 3), (1, 2), (1, 3)), ((0, 1), (2, 3))]
+>>> from oncecrossed.ways import fast_ties, herd_holds, herds, steps_between, within_holds
+>>> FULL = (4, ((0, 1), (0, 2), (0, 3), (1, 2), (1, 3), (2, 3)))
+>>> SQUARE = (4, ((0, 1), (0, 3), (1, 2), (2, 3)))
+>>> TWINS = (4, ((0, 1), (0, 1), (2, 3), (2, 3)))
+>>> [herds(FULL, 2), steps_between(TWINS, (0, 2), (1, 3), 2), within_holds(TWINS, (0, 2), (1, 3), 12, 1, ('heights', (0, 1, 1, 2))), steps_between(SQUARE, (0, 3), (1, 2), 2), herd_holds(SQUARE, (0, 3), (1, 2), 2, ('shut', ((0, 3),))), fast_ties(SQUARE, (0, 3), 2), fast_ties(SQUARE, (0, 3), 4)]
+[(((0, 5),), ((1, 4),), ((2, 3),)), 2, True, None, True, (0, 1, 2, 3), ()]
+>>> from oncecrossed.workshops import Workshop
+>>> HEXAGON = (6, ((0, 1), (0, 5), (1, 2), (2, 3), (3, 4), (4, 5)))
+>>> shop = Workshop(HEXAGON, strict=True)
+>>> shop.deal((('lay', (0, 1, 2)), ('hold', (0, 3, 5))))
+>>> [shop.showing(), shop.shown(), shop.held_shown(), str(shop), shop.would((('take', 0),))]
+[(3, 4, 5, (0, 1, 2)), ((4, ((0, 1), (0, 3), (1, 2), (2, 3))), (4, 3, 5, 1)), (1, 2), 'strict workshop\nplaces 6\n0 1\n0 5\n1 2\n2 3\n3 4\n4 5\nshows 3 4 5 ( 0 1 2 )\nholds 0 3 5', False]
+>>> from oncecrossed.workshops import Workshop
+>>> HEXAGON = (6, ((0, 1), (0, 5), (1, 2), (2, 3), (3, 4), (4, 5)))
+>>> shop = Workshop(HEXAGON, strict=True)
+>>> shop.change(('lay', (0, 1, 2)))
+>>> shop.change(('open', 3))
+>>> shop.undo()
+>>> [shop.showing(), shop.deeds(), shop.would((('take', 1), ('put', 0, 5))), shop.would((('take', 1),))]
+[(3, 4, 5, (0, 1, 2)), 1, True, False]
+>>> from oncecrossed.workshops import Workshop
+>>> HEXAGON = (6, ((0, 1), (0, 5), (1, 2), (2, 3), (3, 4), (4, 5)))
+>>> shop = Workshop(HEXAGON)
+>>> shop.change(('take', 6))
+raises BadTie(number=6)
 """
 
 
@@ -138,17 +175,17 @@ def outcome(line, names):
 class TestExamples(unittest.TestCase):
     def test_examples(self):
         names = {}
-        asked = ""
+        lines = EXAMPLES.strip().split("\n")
         told = 0
-        for line in EXAMPLES.strip().split("\n"):
-            if line.startswith(">>> ") and (" import " in line or line.split()[2] == "="):
+        for line, behind in zip(lines, lines[1:] + [">>> "]):
+            if line.startswith(">>> ") and behind.startswith(">>> "):
+                # Imports and names, and changes of workshops, of which the document tells no result.
                 exec(line[4:], names)
             elif line.startswith(">>> "):
-                asked = line[4:]
-            else:
-                self.assertEqual(outcome(asked, names), line, asked)
+                self.assertEqual(outcome(line[4:], names), behind, line)
                 told += 1
-        self.assertEqual(told, EXAMPLES.count("\n") - EXAMPLES.count("\n>>> ") - 1)
+        self.assertEqual(told, len([line for line in lines if not line.startswith(">>> ")]))
+        self.assertEqual(told, 30)
 
 
 if __name__ == "__main__":

@@ -1,4 +1,4 @@
-"""Names, parameters and places of all that the interface lists, for what is built so far."""
+"""Names, parameters and places of all that the interface lists."""
 
 import importlib
 import inspect
@@ -34,8 +34,24 @@ INTERFACE = {
     "ears": ("is_row(web, thing)", "least_doubles(web)", "judge_ears(web, k)", "ears_hold(web, k, thing)",
              "pairings_along(web, row)"),
     "leaning": ("judge_leaning(web, one, other)", "leaning_holds(web, one, other, thing)", "flocks(web)"),
+    "spare": ("web_less(web, numbers)", "judge_spare(web, number)", "spare_holds(web, number, thing)", "spare_ties(web)",
+              "keeping_ties(web)", "spare_pairs(web)", "judge_lean(web)", "lean_holds(web, thing)", "thinning(web)",
+              "is_thinning(web, thing)"),
+    "turnings": ("rings_between(web, one, other)", "are_neighbours(web, one, other)", "pairings_of_both(web, one, other)",
+                 "turning_rings(web, pairing, most)", "turned(web, pairing, ring)", "turn_row(web, pairing, ring)",
+                 "freedom(web)"),
+    "ways": ("steps_between(web, one, other, most)", "judge_within(web, one, other, most, steps)",
+             "within_holds(web, one, other, most, steps, thing)", "herds(web, most)", "judge_herd(web, one, other, most)",
+             "herd_holds(web, one, other, most, thing)", "fast_ties(web, pairing, most)",
+             "judge_fast(web, pairing, number, most)", "fast_holds(web, pairing, number, most, thing)"),
+    "workshops": ("Workshop(web, strict=False)", "read_workshop(text)"),
     "covered": ("is_covered(thing)", "judge_covered(web)", "covered_holds(web, thing)", "covered_parts(web)"),
 }
+
+
+METHODS = ("base(self)", "showing(self)", "shown(self)", "held(self)", "held_shown(self)", "is_strict(self)", "deeds(self)",
+           "change(self, change)", "deal(self, changes)", "would(self, changes)", "undo(self)", "redo(self)", "copied(self)",
+           "__init__(self, web, strict=False)", "__eq__(self, other)", "__str__(self)")
 
 
 class TestInterface(unittest.TestCase):
@@ -47,6 +63,13 @@ class TestInterface(unittest.TestCase):
                 found = vars(module)[name]
                 self.assertEqual(name + str(inspect.signature(found)), call)
                 self.assertEqual(found.__module__, "oncecrossed." + file, call)
+
+    def test_methods(self):
+        shop = importlib.import_module("oncecrossed.workshops").Workshop
+        for call in METHODS:
+            name = call.split("(")[0]
+            self.assertEqual(name + str(inspect.signature(vars(shop)[name])), call)
+        self.assertEqual(shop.__bases__, (object,))
 
 
 if __name__ == "__main__":

@@ -83,9 +83,17 @@ class TestTrees(unittest.TestCase):
                     self.assertIsInstance(node.value, ast.Constant, place)
                 if isinstance(node, ast.Assign):
                     self.assertEqual(len(node.targets), 1, place)
-                    ast.literal_eval(node.value)
+                    self.check_plain(tree, node)
             names = defined_in(tree)
             self.assertEqual(len(names), len(set(names)), name)
+
+    def check_plain(self, tree, node):
+        """A value at module level is plain, or a dict of functions that are defined above."""
+        above = [part.name for part in tree.body if isinstance(part, ast.FunctionDef) and part.lineno < node.lineno]
+        if isinstance(node.value, ast.Dict) and all([isinstance(part, ast.Name) for part in node.value.values]):
+            self.assertLessEqual({part.id for part in node.value.values}, set(above), node.lineno)
+        else:
+            ast.literal_eval(node.value)
 
     def test_imports(self):
         links = {}
