@@ -144,7 +144,8 @@ def thinning(web):
     # A tie may become spare if one that leans on it is taken away, so all that are left are looked at once more.
     while many < len(taken):
         many = len(taken)
-        for number in numbers_but(web, taken):
+        left = numbers_but(web, taken)
+        for number in left:
             if is_covered(left_web(web, taken + (number,))):
                 taken = taken + (number,)
     return taken

@@ -139,7 +139,7 @@ class TestSpare(unittest.TestCase):
                 self.assertIs(spare_holds(web, number, value), False, (web, number, value))
         paper = judge_spare(MORE, 0)[1]
         for value in (("spare", paper[1:]), ("spare", paper[:1] * 6), ("spare", paper + paper[:1]), ("lean", paper), ("alone",),
-                      ("spare", ((0, 6),) + paper[1:]), ("spare", paper[:1] + paper[2:3] + paper[1:2] + paper[3:])):
+                      ("spare", ((0, 6),) + paper[1:]), ("spare", paper[:5] + ((0, 6),)), ("spare", paper[:1] + paper[2:3] + paper[1:2] + paper[3:])):
             self.assertIs(spare_holds(MORE, 0, value), False, value)
         self.assertIs(spare_holds(PAIR, 0, ("spare", ())), False)
         self.assertIs(spare_holds(TWIN, 0, ("alone",)), False)
