@@ -17,7 +17,9 @@ THICK_TRIANGLE = (3, ((0, 1), (0, 1), (0, 2), (1, 2), (1, 2), (1, 2)))
 # A ring of three and one of five, with one tie between them; two rings of three and a pair beside them.
 UNEVEN = (8, ((0, 1), (0, 2), (1, 2), (2, 3), (3, 4), (3, 7), (4, 5), (5, 6), (6, 7)))
 BESIDE = (8, ((0, 4), (0, 6), (1, 3), (1, 3), (2, 5), (2, 7), (4, 6), (5, 7)))
-SMALL = [web for web in WEBS + COVERED if 1 < web[0] <= 8 and len(web[1]) <= 16] + [TWO, THICK_TRIANGLE, UNEVEN, BESIDE]
+# Eight places and sixteen ties, the most there may be.
+SIXTEEN = (8, tuple(sorted(CUBE[1] + ((0, 3), (1, 2), (4, 7), (5, 6)))))
+SMALL = [web for web in WEBS + COVERED if 1 < web[0] <= 8 and len(web[1]) <= 16] + [TWO, THICK_TRIANGLE, UNEVEN, BESIDE, SIXTEEN]
 
 
 def slow_rows(web):
